@@ -1,0 +1,1 @@
+"""Wellpanes: square pictures that hang within one another."""
