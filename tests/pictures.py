@@ -1,6 +1,12 @@
-"""Pictures worked out by turning grids of cells, so that the tests need not trust the program's own turns."""
+"""Pictures for the tests, worked out by turning grids of cells or by going step by step.
+
+So the tests need not trust the program's own turns.
+"""
 
 from itertools import product
+from random import Random
+
+from wellpanes.panes import quarter_of
 
 TURNS = range(8)
 QUARTERS = range(4)
@@ -55,3 +61,48 @@ def part_of_grid(grid, quarter):
 
 def looks_of(house):
     return list(product(range(len(house)), TURNS))
+
+
+def random_house(rng, many, colours="abc", looks=0.5, turns=TURNS):
+    """A house of so many panes, about so large a part of its quarters looks; rng is seeded by who asks."""
+    def quarter():
+        if rng.random() < looks:
+            return (rng.randrange(many), rng.choice(turns))
+        return rng.choice(colours)
+    return tuple([(quarter(), quarter(), quarter(), quarter()) for _ in range(many)])
+
+
+def some_houses(many, seed=0):
+    """Houses of few panes and of all kinds, among them ones without a colour and ones of one colour."""
+    rng = Random(seed)
+    for _ in range(many):
+        panes = rng.randrange(1, 5)
+        looks = rng.choice((0.2, 0.5, 0.8, 1))
+        yield random_house(rng, panes, rng.choice(("a", "ab", "abc")), looks, rng.choice(((0,), (0, 4), TURNS)))
+
+
+def sights_of(house):
+    return ["a", "b", "zz"] + looks_of(house)
+
+
+def quarters_along(spot, many):
+    row, again = spot
+    return (row + again * many)[:many]
+
+
+def colour_by_steps(house, sight, spot):
+    """What is told at the spot, by going along it so far that all looks must have come round."""
+    here = sight
+    for quarter in quarters_along(spot, len(spot[0]) + len(spot[1]) * (8 * len(house) + 1)):
+        here = quarter_of(house, here, quarter)
+    return here if isinstance(here, str) else None
+
+
+def rows_to(longest):
+    """All rows of quarters, the shorter ones first, of each length the least first."""
+    return [row for length in range(longest + 1) for row in product(QUARTERS, repeat=length)]
+
+
+def least_row(longest, is_sought):
+    found = [row for row in rows_to(longest) if is_sought(row)]
+    return found[0] if found else None

@@ -43,6 +43,11 @@ def quarter_of(house, sight, quarter):
     return turned(house[pane][shown(turn, quarter)], turn)
 
 
+def quarters_of(house, sight):
+    """What is seen in its four quarters."""
+    return [quarter_of(house, sight, quarter) for quarter in range(4)]
+
+
 def sight_at(house, sight, row):
     """What is come to from the sight by the quarters of the row, one behind the other."""
     here = sight
