@@ -7,6 +7,7 @@ from itertools import product
 from random import Random
 
 from wellpanes.panes import quarter_of
+from wellpanes.turns import back, behind
 
 TURNS = range(8)
 QUARTERS = range(4)
@@ -106,3 +107,23 @@ def rows_to(longest):
 def least_row(longest, is_sought):
     found = [row for row in rows_to(longest) if is_sought(row)]
     return found[0] if found else None
+
+
+def made_otherwise(rng, house):
+    """The same pictures in another house, and a function that tells what a sight of this house is there.
+
+    There each pane is twice, in some order, each turned somehow; and the colour a is hidden here and there.
+    """
+    copies = [(pane, copy) for pane in range(len(house)) for copy in (0, 1)]
+    rng.shuffle(copies)
+    by = {copy: rng.choice(TURNS) for copy in copies}
+
+    def told_there(sight):
+        if isinstance(sight, str):
+            return (len(copies), rng.choice(TURNS)) if sight == "a" and rng.random() < 0.5 else sight
+        copy = (sight[0], rng.randrange(2))
+        return (copies.index(copy), behind(back(by[copy]), sight[1]))
+    panes = []
+    for copy in copies:
+        panes.append(tuple([told_there(quarter_of(house, (copy[0], by[copy]), quarter)) for quarter in QUARTERS]))
+    return tuple(panes) + (("a",) * 4,), told_there

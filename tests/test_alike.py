@@ -2,10 +2,11 @@ import unittest
 from itertools import product
 from random import Random
 
-from pictures import QUARTERS, TURNS, colour_by_steps, least_row, looks_of, random_house, rows_to, sights_of, some_houses
+from pictures import QUARTERS, TURNS, colour_by_steps, least_row, looks_of, made_otherwise, random_house, rows_to
+from pictures import sights_of, some_houses
 from wellpanes.alike import alike, pairing, parted, spot_with, whole_of
-from wellpanes.panes import beside, numbered_on, quarter_of, sight_at, turned
-from wellpanes.turns import back, behind, shown
+from wellpanes.panes import beside, numbered_on, sight_at, turned
+from wellpanes.turns import back, shown
 
 # 0 is all red, so are 1 and 2 behind their looks; 3 is red but at its last corner, where it never ends;
 # 4 shows at its first quarter itself, turned by 1; 5 is that again, turned and otherwise made; 6 has no colour.
@@ -32,22 +33,6 @@ def two_rings(one, other):
     panes[one - 1] = ((0, 0), "p", "a", "b")
     panes[void - 1] = ((one, 0), "q", "a", "b")
     return tuple(panes) + (((void, 0), (void, 1), (void, 2), (void, 3)),)
-
-
-def turned_house(house, by):
-    """The same pictures in another house: pane p shows what (p, by[p]) showed; and the look for it there."""
-    panes = []
-    for at in range(len(house)):
-        sights = [quarter_of(house, (at, by[at]), quarter) for quarter in QUARTERS]
-        panes.append(tuple([relooked(sight, by) for sight in sights]))
-    return tuple(panes)
-
-
-def relooked(sight, by):
-    if isinstance(sight, str):
-        return sight
-    pane, turn = sight
-    return (pane, behind(back(by[pane]), turn))
 
 
 class Alike(unittest.TestCase):
@@ -119,11 +104,11 @@ class Alike(unittest.TestCase):
         rng = Random(31)
         for looks in (0.3, 0.7, 0.9, 1):
             house = random_house(rng, 12, "abcdefghijkl", looks)
-            by = [rng.choice(TURNS) for _ in house]
-            both = beside(house, turned_house(house, by))
-            self.assertEqual(len(both), 24)
+            other, told_there = made_otherwise(rng, house)
+            both = beside(house, other)
             for look in looks_of(house):
-                self.assertIs(alike(both, look, numbered_on(relooked(look, by), 12)), True)
+                self.assertIs(alike(both, look, numbered_on(told_there(look), 12)), True)
+                self.assertIs(alike(both, numbered_on(told_there(look), 12), look), True)
 
     def test_by_name(self):
         self.assertIs(alike(other="red", one=(2, 0), house=HOUSE), True)
@@ -372,12 +357,12 @@ class Pairing(unittest.TestCase):
 
     def test_rings_and_copies_of_24_panes(self):
         rng = Random(34)
-        house = random_house(rng, 12, "abc", 0.8)
-        by = [rng.choice(TURNS) for _ in house]
-        both = beside(house, turned_house(house, by))
+        house = random_house(rng, 8, "abc", 0.8)
+        other, told_there = made_otherwise(rng, house)
+        both = beside(house, other)
         for look in looks_of(house)[::5]:
-            other = numbered_on(relooked(look, by), 12)
-            assert_pairing(self, both, look, other, pairing(both, look, other))
+            there = numbered_on(told_there(look), 8)
+            assert_pairing(self, both, look, there, pairing(both, look, there))
 
     def test_what_is_told_is_the_askers_own(self):
         told = pairing(HOUSE, (2, 0), "red")

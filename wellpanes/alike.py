@@ -2,7 +2,7 @@
 
 from wellpanes.grounds import ends_in, heights_of, whole_in, wholes_of
 from wellpanes.pairs import quarters_of_both, unturned
-from wellpanes.panes import quarters_of, sight_at
+from wellpanes.panes import colours_in, quarters_of, sight_at
 from wellpanes.rows import places_from, shortest_row
 
 
@@ -62,7 +62,9 @@ def parted(house, one, other):
     """A spot at which they aren't told the same, None where they are alike."""
     if alike(house, one, other):
         return None
-    row = _row_to_pair(house, one, other, _are_unlike_colours)
+    row = None
+    if len(colours_in(house, [one, other])) > 1:
+        row = _row_to_pair(house, one, other, _are_unlike_colours)
     return _spot_where_one_ends(house, one, other) if row is None else (row, (0,))
 
 
