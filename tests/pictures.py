@@ -127,3 +127,67 @@ def made_otherwise(rng, house):
     for copy in copies:
         panes.append(tuple([told_there(quarter_of(house, (copy[0], by[copy]), quarter)) for quarter in QUARTERS]))
     return tuple(panes) + (("a",) * 4,), told_there
+
+
+def some_spots(longest=2, longest_round=2):
+    """All spots whose row and whose round are at most so long."""
+    return [(row, again) for row in rows_to(longest) for again in rows_to(longest_round)[1:]]
+
+
+def begins_with(spot, row):
+    return quarters_along(spot, len(row)) == row
+
+
+def rest_of(spot, many):
+    """The spot without its first quarters, so many of them."""
+    row, again = spot
+    if many <= len(row):
+        return (row[many:], again)
+    gone = (many - len(row)) % len(again)
+    return ((), again[gone:] + again[:gone])
+
+
+def along_edge(halves, side):
+    """The quarters of the left edge (side 0) or of the right one (side 1)."""
+    return tuple([2 * half + side for half in halves])
+
+
+def apart_at_edge(house, one, other, row, again):
+    """Whether one's right edge and other's left edge are told unlike along the row and the round of halves."""
+    right = colour_by_steps(house, one, (along_edge(row, 1), along_edge(again, 1)))
+    return right != colour_by_steps(house, other, (along_edge(row, 0), along_edge(again, 0)))
+
+
+def halves_to(longest):
+    """All rows of halves, the shorter ones first, of each length the least first."""
+    return [row for length in range(longest + 1) for row in product((0, 1), repeat=length)]
+
+
+def edge_pairs(house, one, other):
+    """All pairs of sights that meet somewhere along both edges."""
+    seen = {(one, other): True}
+    waiting = [(one, other)]
+    while waiting:
+        first, second = waiting.pop()
+        for half in (0, 1):
+            part = (quarter_of(house, first, 2 * half + 1), quarter_of(house, second, 2 * half))
+            if part not in seen:
+                seen[part] = True
+                waiting.append(part)
+    return list(seen)
+
+
+def fits_by_pairs(house, one, other):
+    """Whether both edges fit, by all pairs that meet: no unlike colours, no colour beside an edge with a spot of none."""
+    pairs = edge_pairs(house, one, other)
+    well = {pair for pair in pairs if isinstance(pair[0], str) and pair[0] == pair[1]}
+    beside_colours = [pair for pair in pairs if isinstance(pair[0], str) != isinstance(pair[1], str)]
+    halves = {(first, second): [(quarter_of(house, first, 2 * half + 1), quarter_of(house, second, 2 * half))
+                                for half in (0, 1)] for first, second in beside_colours}
+    many = -1
+    # A pair of a colour and a look is well where both its halves are, again and again until nothing more comes.
+    while len(well) > many:
+        many = len(well)
+        well |= {pair for pair in beside_colours if halves[pair][0] in well and halves[pair][1] in well}
+    unlike = [pair for pair in pairs if isinstance(pair[0], str) and isinstance(pair[1], str) and pair not in well]
+    return not unlike and all([pair in well for pair in beside_colours])
