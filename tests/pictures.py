@@ -178,7 +178,7 @@ def edge_pairs(house, one, other):
 
 
 def fits_by_pairs(house, one, other):
-    """Whether both edges fit, by all pairs that meet: no unlike colours, no colour beside an edge with a spot of none."""
+    """Whether both edges fit, by all pairs that meet: no unlike colours, no colour beside a spot of none."""
     pairs = edge_pairs(house, one, other)
     well = {pair for pair in pairs if isinstance(pair[0], str) and pair[0] == pair[1]}
     beside_colours = [pair for pair in pairs if isinstance(pair[0], str) != isinstance(pair[1], str)]

@@ -198,7 +198,8 @@ class Recoloured(Case):
         self.assertEqual(quarter_of(new, sight, 0), "b")
 
     def test_by_name(self):
-        self.assertEqual(recoloured(colours={"a": "b"}, sight=(0, 1), house=HOUSE), recoloured(HOUSE, (0, 1), {"a": "b"}))
+        told = recoloured(HOUSE, (0, 1), {"a": "b"})
+        self.assertEqual(recoloured(colours={"a": "b"}, sight=(0, 1), house=HOUSE), told)
 
 
 class Interface(unittest.TestCase):
